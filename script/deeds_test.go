@@ -270,19 +270,52 @@ func TestLongStretches(t *testing.T) {
 	wantFault(t, oneThread("halt", remark(60000), "do bank 0 2 sum", "", "halt", remark(66000)), 7, api.ErrCodeLong)
 }
 
-// An end has one field; what only begins like it is none.
+// An end has one field; what only begins like it is a line of the program, and wrong as code is.
 func TestEnds(t *testing.T) {
-	for _, end := range []string{"end x", "end 1", "end end", "end\tdo", "end ."} {
-		wantFault(t, oneThread(end), 3, api.ErrScriptLine)
-		wantFault(t, oneThread("x", "", end, "halt"), 5, api.ErrScriptLine)
-		wantFault(t, smallLine+"thread\nhalt\n"+end, 4, api.ErrScriptLine)
-		wantFault(t, oneThread("halt ; "+end, "end ; all", end), 5, api.ErrScriptLine)
+	for _, end := range []string{"end x", "end 1", "end end", "end\tdo", " end  thread ", "end .", "end :", "end c ; end"} {
+		wantFault(t, smallLine+"thread\n"+end, 2, api.ErrScriptLine)
+		wantFault(t, smallLine+"thread\nhalt\n"+end, 2, api.ErrScriptLine)
+		wantFault(t, smallLine+haltLines+"\nthread\n"+end+"\nthread\ndo\n"+end+"\n", 6, api.ErrScriptLine)
+		wantFault(t, oneThread(end), 3, api.ErrCodeLine)
+		wantFault(t, oneThread("halt", end), 4, api.ErrCodeLine)
+		wantFault(t, oneThread(end, "halt"), 3, api.ErrCodeLine)
+		wantFault(t, oneThread("halt ; "+end, "; all", end), 5, api.ErrCodeLine)
+		wantFault(t, oneThread("halt", end, "thread", "halt"), 4, api.ErrCodeLine)
+		wantFault(t, smallLine+haltLines+end+"\n"+haltLines, 5, api.ErrScriptLine)
 	}
 	wantProgram(t, list(in(api.DoJump, 0)), "end:", "jump end")
 	wantFault(t, oneThread("halt", "end; x"), 5, api.ErrScriptLine) // that is one: the second one is too many
 	for _, line := range []string{"ends", "END", "end:x", "x end"} {
 		wantFault(t, oneThread(line), 3, api.ErrCodeLine)
 	}
+}
+
+// Of a line that only begins like an end it is told in its turn, as of any other of its stretch.
+func TestEndsAmongOtherFaults(t *testing.T) {
+	for _, c := range []struct {
+		line int
+		e    api.Errno
+		text string
+	}{
+		{3, api.ErrCodeLine, "x/end c"},
+		{3, api.ErrCodeLine, "end c/x"},
+		{4, api.ErrCodeName, "a:/a:/end c"},
+		{4, api.ErrCodeLine, "jump b/end c"},
+		{4, api.ErrCodeLine, "jump 9/end c"},
+		{5, api.ErrCodeLine, "do bank 0 2 sum/halt/end c"},
+		{3, api.ErrCodeLine, "end c/do bank"},
+		{3, api.ErrScriptLine, "do bank/end c"},
+		{4, api.ErrSetArg, "halt/do set 0 61 size/end c"},
+		{3, api.ErrCodeLong, "a:/do bank 0 2 sum/end c"},
+		{4, api.ErrCodeLine, "halt/end c/thread/end 1"},
+	} {
+		text := oneThread(strings.Split(c.text, "/")...)
+		wantFault(t, text, c.line, c.e)
+		wantFault(t, strings.TrimSuffix(text, "end\n"), 2, api.ErrScriptLine)
+	}
+	// It counts for how long a stretch's text is.
+	wantFault(t, oneThread("", "end "+strings.Repeat("c", 65536-6)), 4, api.ErrCodeLine)
+	wantFault(t, oneThread("", "end "+strings.Repeat("c", 65536-5)), 4, api.ErrCodeLong)
 }
 
 // Deeds' programs stand in a program as they are, whatever they are.

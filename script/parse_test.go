@@ -134,7 +134,7 @@ func TestOtherWhiteSpace(t *testing.T) {
 func TestWordsThatAreNone(t *testing.T) {
 	for _, line := range []string{
 		"x", "Config 256 2 8 1 0 0", "CONFIG", "conf", "configs 256 2 8 1 0 0", "config: 256 2 8 1 0 0", "starts 1", "threads", "Thread", "halt", "push 1", "a:",
-		"do", "do bank 0 2 sum", "end", "ends", "pick 1", "drains 1", "0", "-", "1 2 3", "config256 2 8 1 0 0", "none", "script",
+		"do", "do bank 0 2 sum", "end", "end c", "end end", "ends", "pick 1", "drains 1", "0", "-", "1 2 3", "config256 2 8 1 0 0", "none", "script",
 	} {
 		wantFault(t, line, 1, api.ErrScriptLine)
 		wantFault(t, smallLine+line, 2, api.ErrScriptLine)
@@ -156,7 +156,8 @@ func TestHowManyFieldsLinesHave(t *testing.T) {
 		}
 		if n > 0 {
 			wantFault(t, smallLine+"thread"+ones, 2, api.ErrScriptLine)
-			wantFault(t, smallLine+"thread\nhalt\nend"+ones, 4, api.ErrScriptLine)
+			wantFault(t, smallLine+"thread\nhalt\nend"+ones+"\nend", 4, api.ErrCodeLine)
+			wantFault(t, smallLine+haltLines+"end"+ones, 5, api.ErrScriptLine)
 			s := plainOne()
 			s.Start, s.Picks = many(n, int64(1)), many(n, 1)
 			wantParse(t, smallLine+"start"+ones+"\n"+haltLines+"picks"+ones, s)
@@ -287,7 +288,8 @@ func TestThreadsWithoutAnEnd(t *testing.T) {
 	// What is within a program belongs to it, and nobody asks what is wrong with that.
 	wantFault(t, smallLine+"thread\npush\nx\ndo\nthread\npicks 1", 2, api.ErrScriptLine)
 	wantFault(t, smallLine+"thread\nhalt\nthread\nhalt", 2, api.ErrScriptLine)
-	wantFault(t, smallLine+"thread\nhalt\nconfig 4 2 8 1 0 0\nend x\n", 5, api.ErrScriptLine)
+	wantFault(t, smallLine+"thread\nhalt\nconfig 4 2 8 1 0 0\nend x\n", 2, api.ErrScriptLine)
+	wantFault(t, smallLine+haltLines+"thread\nhalt\nend x", 5, api.ErrScriptLine)
 }
 
 func TestLongTexts(t *testing.T) {
@@ -312,7 +314,7 @@ func TestParseTellsTheFirst(t *testing.T) {
 	wantFault(t, smallLine+"thread\npush\nend\nx", 3, api.ErrCodeLine)
 	wantFault(t, smallLine+haltLines+"drain 70000\nx", 5, api.ErrScriptPicks)
 	wantFault(t, smallLine+"drain 70000", 2, api.ErrScriptPicks)
-	wantFault(t, smallLine+haltLines+"thread\nhalt\nend x\n", 7, api.ErrScriptLine)
+	wantFault(t, smallLine+haltLines+"thread\nhalt\nend x\nend\nx", 7, api.ErrCodeLine)
 }
 
 // The chapter's examples

@@ -137,14 +137,11 @@ func (p *plainText) read(s *api.Script) (int, api.Errno) {
 func (p *plainText) thread() ([]api.Instr, int, api.Errno) {
 	from := p.at
 	end := from + 1
-	for end < len(p.says) && p.says[end] != "end" && !strings.HasPrefix(p.says[end], "end ") {
+	for end < len(p.says) && p.says[end] != "end" {
 		end++
 	}
 	if end == len(p.says) {
 		return nil, from + 1, api.ErrScriptLine
-	}
-	if p.says[end] != "end" {
-		return nil, end + 1, api.ErrScriptLine
 	}
 	p.at = end
 	p.next()

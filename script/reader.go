@@ -48,7 +48,7 @@ func newReader() *reader {
 // take reads a line.
 func (r *reader) take(line int, raw string) {
 	fields := fieldsOf(raw)
-	if r.thread > 0 && !startsWith(fields, "end") {
+	if r.thread > 0 && !isEnd(fields) {
 		// Kept as it stands: a program is read when its end has come, and remarks count for how long its text is.
 		r.body = append(r.body, raw)
 		return
@@ -64,9 +64,11 @@ func (r *reader) take(line int, raw string) {
 	ask()
 }
 
-func startsWith(fields []string, word string) bool {
-	return len(fields) > 0 && fields[0] == word
-}
+// isEnd asks for the whole line: one that only begins with that word is a line of the program, as any other.
+func isEnd(fields []string) bool { return len(fields) == 1 && fields[0] == "end" }
+
+// isDeed asks for the first field alone: a deed that is none as a whole is told as such, not as code.
+func isDeed(fields []string) bool { return len(fields) > 0 && fields[0] == "do" }
 
 // goTo goes on to a part, or stays there; there is no way back, and none past the config.
 func (r *reader) goTo(part int) {
@@ -120,7 +122,6 @@ func (r *reader) end() {
 	if r.thread == 0 {
 		giveUp(r.line, api.ErrScriptLine)
 	}
-	r.numbers(0, 0)
 	l, e := code.Join(r.parts()...)
 	if e != api.OK {
 		giveUp(r.line, e)
@@ -165,7 +166,7 @@ func (r *reader) parts() [][]api.Instr {
 	var parts [][]api.Instr
 	first, from := r.thread+1, 0
 	for i, raw := range r.body {
-		if fields := fieldsOf(raw); startsWith(fields, "do") {
+		if fields := fieldsOf(raw); isDeed(fields) {
 			parts = append(parts, stretch(first+from, r.body[from:i])...)
 			parts = append(parts, r.deed(first+i, fields))
 			from = i + 1
